@@ -1,0 +1,126 @@
+"""The package's files keep to the plainest rules of the language that the program is written in."""
+
+import ast
+import builtins
+import pathlib
+import re
+import unittest
+
+PACKAGE = pathlib.Path(__file__).resolve().parent.parent / "rookborders"
+
+OWN_NAMES = set(
+    "len range enumerate zip min max sum abs sorted reversed int str bool bytes list tuple dict set frozenset "
+    "isinstance ord repr any all divmod Exception ValueError TypeError KeyError IndexError LookupError "
+    "ZeroDivisionError ArithmeticError OverflowError RuntimeError NotImplementedError AttributeError "
+    "StopIteration".split()
+)
+METHODS = set(
+    "append clear copy count endswith extend find get index insert isalnum isalpha isdigit islower isspace "
+    "isupper items join keys ljust lower lstrip partition pop remove replace reverse rfind rjust rpartition "
+    "rsplit rstrip setdefault split splitlines startswith strip update upper values zfill bit_length title "
+    "capitalize swapcase casefold center expandtabs removeprefix removesuffix rindex isascii isdecimal "
+    "isnumeric istitle isidentifier isprintable translate maketrans add discard sort encode decode hex "
+    "fromhex to_bytes from_bytes __init__".split()
+)
+OUT = (
+    ast.With, ast.Match, ast.Global, ast.Nonlocal, ast.Yield, ast.YieldFrom, ast.AsyncFunctionDef, ast.AsyncFor,
+    ast.AsyncWith, ast.Await, ast.GeneratorExp, ast.NamedExpr, ast.Div, ast.MatMult, ast.Import, ast.TryStar,
+)
+WORDS = re.compile(
+    r"\b(type|typing|typing_extensions|enum|Enum|IntEnum|StrEnum|Flag|IntFlag|Generic|Protocol|ABC|ABCMeta|"
+    r"namedtuple|NamedTuple|TypedDict|TYPE_CHECKING|abstractmethod)\b|dataclass|overload|contextmanager"
+)
+PYTHONS_METHODS = ("__init__", "__eq__", "__repr__", "__str__", "__len__")
+
+
+def nodes_of(tree, kind):
+    return [node for node in ast.walk(tree) if isinstance(node, kind)]
+
+
+def methods_of(tree):
+    return [node for kind in nodes_of(tree, ast.ClassDef) for node in kind.body if isinstance(node, ast.FunctionDef)]
+
+
+def names_bound(tree):
+    """The names that a file binds, those of methods left out."""
+    methods = methods_of(tree)
+    names = [node.id for node in nodes_of(tree, ast.Name) if isinstance(node.ctx, ast.Store)]
+    names += [node.arg for node in nodes_of(tree, ast.arg)]
+    defs = nodes_of(tree, (ast.FunctionDef, ast.ClassDef))
+    return names + [node.name for node in defs if node not in methods]
+
+
+class LanguageTest(unittest.TestCase):
+    def setUp(self):
+        self.texts = {path: path.read_text(encoding="utf-8") for path in sorted(PACKAGE.rglob("*.py"))}
+        self.trees = {path: ast.parse(text) for path, text in self.texts.items()}
+
+    def test_nothing_else_lies_in_the_package(self):
+        names = [path.name for path in PACKAGE.iterdir() if path.name != "__pycache__"]
+        self.assertIn("__init__.py", names)
+        self.assertEqual([name for name in names if not re.fullmatch(r"[a-z0-9_]+\.py", name)], [])
+
+    def test_signs_and_sizes(self):
+        for path, text in self.texts.items():
+            with self.subTest(path.name):
+                self.assertEqual(re.findall(r"[^ -~\n]", text), [])
+                rows = text.split("\n")
+                self.assertLessEqual(len(rows), 400)
+                self.assertEqual([row for row in rows if len(row) > 120], [])
+
+    def test_functions_are_short(self):
+        for path, tree in self.trees.items():
+            with self.subTest(path.name):
+                for node in nodes_of(tree, ast.FunctionDef):
+                    self.assertLessEqual(node.end_lineno - node.lineno + 1, 40, node.name)
+
+    def test_words_that_stand_nowhere(self):
+        for path, text in self.texts.items():
+            with self.subTest(path.name):
+                self.assertEqual([found.group() for found in WORDS.finditer(text)], [])
+
+    def test_imports_are_the_packages_own_by_name(self):
+        for path, tree in self.trees.items():
+            with self.subTest(path.name):
+                for node in nodes_of(tree, ast.ImportFrom):
+                    self.assertIn(node, tree.body)
+                    self.assertEqual(node.level, 0)
+                    self.assertTrue(node.module == "__future__" or node.module.startswith("rookborders."))
+                    self.assertNotIn("*", [alias.name for alias in node.names])
+
+    def test_forms_that_are_out(self):
+        for path, tree in self.trees.items():
+            with self.subTest(path.name):
+                self.assertEqual(nodes_of(tree, OUT), [])
+                floats = [node for node in nodes_of(tree, ast.Constant) if isinstance(node.value, (float, complex))]
+                self.assertEqual(floats, [])
+                decorated = [node for node in nodes_of(tree, (ast.FunctionDef, ast.ClassDef)) if node.decorator_list]
+                self.assertEqual(decorated, [])
+
+    def test_names(self):
+        for path, tree in self.trees.items():
+            with self.subTest(path.name):
+                bound = names_bound(tree)
+                methods = [node.name for node in methods_of(tree) if node.name not in PYTHONS_METHODS]
+                self.assertEqual([name for name in bound + methods if name.startswith("_")], [])
+                self.assertEqual([name for name in bound if hasattr(builtins, name)], [])
+
+    def test_pythons_own_names(self):
+        for path, tree in self.trees.items():
+            with self.subTest(path.name):
+                read = {node.id for node in nodes_of(tree, ast.Name) if hasattr(builtins, node.id)}
+                self.assertEqual(sorted(read - OWN_NAMES), [])
+
+    def test_methods_and_values(self):
+        given = set()
+        for tree in self.trees.values():
+            given |= {node.attr for node in nodes_of(tree, ast.Attribute) if isinstance(node.ctx, ast.Store)}
+            given |= {node.name for node in methods_of(tree)}
+        for path, tree in self.trees.items():
+            with self.subTest(path.name):
+                asked = {node.attr for node in nodes_of(tree, ast.Attribute) if isinstance(node.ctx, ast.Load)}
+                self.assertEqual(sorted(asked - METHODS - given), [])
+
+
+if __name__ == "__main__":
+    unittest.main()
