@@ -1,27 +1,10 @@
 """Squares, judged and vetted, and the lines on them."""
 
 from rookborders.errors import NoSquare
+from rookborders.orders import is_order
 
 LEAST_SIZE = 2
 MOST_SIZE = 6
-
-
-def is_whole(thing):
-    """Tell whether any thing is a whole number."""
-    # Python counts truths among the ints; the document does not.
-    return isinstance(thing, int) and not isinstance(thing, bool)
-
-
-def is_marks(thing):
-    """Tell whether any thing is a tuple of 2 to 6 rows, from 0 on, each one once."""
-    if not isinstance(thing, tuple):
-        return False
-    if not LEAST_SIZE <= len(thing) <= MOST_SIZE:
-        return False
-    # Looked at ahead of sorting: things of unlike kinds can't be sorted.
-    if not all([is_whole(row) for row in thing]):
-        return False
-    return sorted(thing) == list(range(len(thing)))
 
 
 def is_square(thing):
@@ -29,9 +12,10 @@ def is_square(thing):
     if not isinstance(thing, tuple) or len(thing) != 2:
         return False
     rings, crosses = thing
-    if not is_marks(rings) or not is_marks(crosses):
+    # Asked ahead of its length: a whole number has none.
+    if not isinstance(rings, tuple) or not LEAST_SIZE <= len(rings) <= MOST_SIZE:
         return False
-    if len(rings) != len(crosses):
+    if not is_order(len(rings), rings) or not is_order(len(rings), crosses):
         return False
     return all([ring != cross for ring, cross in zip(rings, crosses)])
 

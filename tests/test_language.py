@@ -111,6 +111,64 @@ class LanguageTest(unittest.TestCase):
                 read = {node.id for node in nodes_of(tree, ast.Name) if hasattr(builtins, node.id)}
                 self.assertEqual(sorted(read - OWN_NAMES), [])
 
+    def test_is_stands_beside_none_and_truths_alone(self):
+        for path, tree in self.trees.items():
+            with self.subTest(path.name):
+                for node in nodes_of(tree, ast.Compare):
+                    for sign, thing in zip(node.ops, node.comparators):
+                        if isinstance(sign, (ast.Is, ast.IsNot)):
+                            self.assertIsInstance(thing, ast.Constant)
+                            self.assertIn(thing.value, (None, True, False))
+
+    def test_each_name_of_a_top_once_and_no_local_like_an_import_or_a_class(self):
+        for path, tree in self.trees.items():
+            with self.subTest(path.name):
+                rows = nodes_of(tree, ast.ImportFrom)
+                imported = [alias.asname or alias.name for row in rows for alias in row.names]
+                kinds = [node.name for node in nodes_of(tree, ast.ClassDef)]
+                defs = [node.name for node in tree.body if isinstance(node, ast.FunctionDef)]
+                given = [name.id for node in tree.body if isinstance(node, ast.Assign) for name in node.targets]
+                top = imported + kinds + defs + given
+                self.assertEqual(len(top), len(set(top)))
+                within = [node.id for node in nodes_of(tree, ast.Name) if isinstance(node.ctx, ast.Store)]
+                within += [node.arg for node in nodes_of(tree, ast.arg)]
+                self.assertEqual([name for name in within if name in imported + kinds], [])
+
+    def test_names_are_drawn_from_the_file_that_defines_them_and_never_round(self):
+        drawn = {}
+        for path, tree in self.trees.items():
+            rows = nodes_of(tree, ast.ImportFrom)
+            drawn[path.stem] = [row.module.rpartition(".")[2] for row in rows if row.module != "__future__"]
+            for row in rows:
+                if row.module != "__future__":
+                    source = self.trees[PACKAGE / (row.module.rpartition(".")[2] + ".py")]
+                    self.assertLessEqual({alias.name for alias in row.names}, set(names_bound(source)), path.name)
+        while drawn:
+            free = [name for name in drawn if not set(drawn[name]) & set(drawn)]
+            self.assertNotEqual(free, [], drawn)
+            drawn = {name: drawn[name] for name in drawn if name not in free}
+
+    def test_sets_are_not_walked(self):
+        for path, tree in self.trees.items():
+            with self.subTest(path.name):
+                kept = [
+                    node.targets[0].id
+                    for node in nodes_of(tree, ast.Assign)
+                    if isinstance(node.value, (ast.Set, ast.SetComp)) or ast.unparse(node.value).startswith("set(")
+                ]
+                for node in nodes_of(tree, (ast.For, ast.comprehension)):
+                    self.assertNotIsInstance(node.iter, (ast.Set, ast.SetComp))
+                    self.assertNotIn(ast.unparse(node.iter), kept)
+                    self.assertFalse(ast.unparse(node.iter).startswith("set("))
+
+    def test_texts_and_powers(self):
+        for path, tree in self.trees.items():
+            with self.subTest(path.name):
+                texts = [node.value for node in nodes_of(tree, ast.Constant) if isinstance(node.value, str)]
+                self.assertEqual([text for text in texts if "%" in text], [])
+                powers = [node for node in nodes_of(tree, ast.BinOp) if isinstance(node.op, ast.Pow)]
+                self.assertEqual([node for node in powers if not isinstance(node.right, ast.Constant)], [])
+
     def test_methods_and_values(self):
         given = set()
         for tree in self.trees.values():
