@@ -8,16 +8,25 @@ def added(one, other):
     return sorted(set(one) ^ set(other))
 
 
+def oddly_often(stands):
+    """Tell the crowd of the stands that a list bears oddly often."""
+    odd = set()
+    for stand in stands:
+        if stand in odd:
+            odd.discard(stand)
+        else:
+            odd.add(stand)
+    return sorted(odd)
+
+
+def oddly_many(one, other):
+    """Tell whether two crowds have oddly many stands in common."""
+    return len(set(one) & set(other)) % 2 == 1
+
+
 def border(square, crowd):
     """Tell the crowd of the stands to which oddly many steps lead from the stands of a crowd."""
-    odd = set()
-    for stand in crowd:
-        for a, b, end in steps_from(square, stand):
-            if end in odd:
-                odd.discard(end)
-            else:
-                odd.add(end)
-    return sorted(odd)
+    return oddly_often([end for stand in crowd for a, b, end in steps_from(square, stand)])
 
 
 def two_steps(square, stand):

@@ -47,6 +47,11 @@ def lean(square, stand):
     return unlike - len(rings) + len(lines_of(square))
 
 
+def home_of(square, stand):
+    """Tell the home (grade, lean) of a stand."""
+    return (grade(square, stand), lean(square, stand))
+
+
 def stand_turned(stand, k):
     """Tell what becomes of a stand where the square's columns are turned by k."""
     return order_turned(stand, k)

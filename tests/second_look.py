@@ -1,5 +1,6 @@
-"""Moves, grades and steps reckoned a second time, cell by cell and point by point, to hold the program against."""
+"""Moves, grades, steps and sums reckoned a second time, cell by cell and point by point, to hold the program against."""
 
+from collections import Counter
 from fractions import Fraction
 
 from walker import Walked, all_squares, squares_of
@@ -122,6 +123,10 @@ def lean_looked(square, stand):
     return unlike - len(stand) + len(Walked(square).lines)
 
 
+def home_looked(square, stand):
+    return grade_looked(square[0], stand), lean_looked(square, stand)
+
+
 def gone(start, end, size):
     """The places from a start up to the one ahead of an end, gone one by one."""
     places = []
@@ -171,9 +176,12 @@ def steps_looked(square, stand):
     )
 
 
+def odd_ones(ends):
+    return sorted(end for end, many in Counter(ends).items() if many % 2)
+
+
 def border_looked(square, crowd):
-    ends = [end for stand in crowd for a, b, end in steps_looked(square, stand)]
-    return sorted(end for end in set(ends) if ends.count(end) % 2)
+    return odd_ones([end for stand in crowd for a, b, end in steps_looked(square, stand)])
 
 
 def ways_looked(square, stand):
@@ -183,3 +191,96 @@ def ways_looked(square, stand):
         for c, d, end in steps_looked(square, between):
             found[a, b, c, d] = (sorted(cells_looked(stand, a, b) + cells_looked(between, c, d)), end)
     return found
+
+
+def turn_looked(square, c):
+    """The row of a mark of column c from which, going up and round, one of column c + 1 comes first."""
+    own, others = ({square[0][column], square[1][column]} for column in (c, c + 1))
+    found = []
+    for row in own:
+        at = gone_round(row, 1, len(square[0]))
+        while at not in own | others:
+            at = gone_round(at, 1, len(square[0]))
+        if at in others:
+            found.append(row)
+    assert len(found) == 1, (square, c)
+    return found[0]
+
+
+def bent_marks(square, c, stand, a, b, turns, first):
+    """How many marks lie within the oblong that is bent at bar c + 1: in its column there those of the square that is
+    first, above each turn those of the next of both."""
+    both = [square, exchange_looked(square, c)]
+    rows = gone(stand[a], stand[b], len(stand))
+    bent = c + 1 if a == c + 1 else c
+    marks = 0
+    for column, row in cells_looked(stand, a, b):
+        passed = sum(1 for turn in turns if rows.index(turn) < rows.index(row))
+        side = (first + passed) % 2 if column == bent else 0
+        marks += row in (both[side][0][column], both[side][1][column])
+    return marks
+
+
+def bent_looked(square, c, stand):
+    """The stands to which bent steps lead, each as often as they do."""
+    p, i = turn_looked(square, c), c + 1
+    ends = []
+    for a, b in oblongs_of(len(stand)):
+        if i in (a, b) and p in gone(stand[a], stand[b], len(stand)) and not rooks_within(stand, a, b):
+            if not bent_marks(square, c, stand, a, b, [p], 0 if a == i else 1):
+                ends.append(behind_looked(stand, a, b))
+    return ends
+
+
+def twice_bent_looked(square, c, stand):
+    """The stands to which twice bent steps lead, each as often as they do."""
+    p, q, i = turn_looked(square, c), turn_looked(exchange_looked(square, c), c), c + 1
+    ends = []
+    for a, b in oblongs_of(len(stand)):
+        rows = gone(stand[a], stand[b], len(stand))
+        if i in (a, b) and p in rows and q in rows and not rooks_within(stand, a, b):
+            in_order = (rows.index(p) < rows.index(q)) == (a == i)
+            if in_order and not bent_marks(square, c, stand, a, b, [p, q], 0):
+                ends.append(behind_looked(stand, a, b))
+    return ends
+
+
+def worth_at(one, x):
+    """What a sum of powers is worth at a number that isn't 0."""
+    return sum((many * Fraction(x) ** power for power, many in one), Fraction(0))
+
+
+def determinant_at(table, x):
+    """What the determinant of a table of sums is worth at a number, by clearing columns."""
+    rows = [[worth_at(one, x) for one in row] for row in table]
+    worth = Fraction(1)
+    for at in range(len(rows)):
+        pivot = next((k for k in range(at, len(rows)) if rows[k][at]), None)
+        if pivot is None:
+            return Fraction(0)
+        if pivot != at:
+            rows[at], rows[pivot], worth = rows[pivot], rows[at], -worth
+        worth *= rows[at][at]
+        for k in range(at + 1, len(rows)):
+            share = rows[k][at] / rows[at][at]
+            rows[k] = [low - share * high for low, high in zip(rows[k], rows[at])]
+    return worth
+
+
+def is_sum(thing):
+    """Whether a thing is a list of tuples (power, many), powers rising, many never 0."""
+    if type(thing) is not list or {type(pair) for pair in thing} - {tuple}:
+        return False
+    if {len(pair) for pair in thing} - {2} or {type(number) for pair in thing for number in pair} - {int}:
+        return False
+    powers = [power for power, many in thing]
+    return powers == sorted(set(powers)) and all(many for power, many in thing)
+
+
+def raised_alike(one, other):
+    """Whether two sums are the same but for a sign and for powers raised alike."""
+    if not one or not other:
+        return one == other
+    shift = other[0][0] - one[0][0]
+    raised = [(power + shift, many) for power, many in one]
+    return other in (raised, [(power, -many) for power, many in raised])
