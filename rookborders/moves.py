@@ -6,6 +6,8 @@ from rookborders.orders import order_exchanged, order_raised, order_tipped, orde
 from rookborders.squares import MOST_SIZE
 
 MANY_WAYS = 4
+# How many whole numbers stand behind the text of each kind of move.
+MANY_NUMBERS = {"columns": 1, "rows": 1, "tip": 0, "swap": 1, "cross": 1, "put": 2, "take": 2}
 
 
 def columns_turned(square, k):
@@ -120,6 +122,11 @@ def corner_taken(square, c, r):
     rings, crosses = square
     full_column = free_and_full(c, r, way)[2]
     return (rows_joined(rings, r, full_column), rows_joined(crosses, r, full_column))
+
+
+def is_move(words):
+    """Tell whether a tuple of a text and whole numbers behind it is a move."""
+    return MANY_NUMBERS.get(words[0]) == len(words) - 1
 
 
 def moved(square, move):

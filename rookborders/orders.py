@@ -39,3 +39,16 @@ def order_exchanged(order, one, other):
     numbers = list(order)
     numbers[one], numbers[other] = order[other], order[one]
     return tuple(numbers)
+
+
+def order_rounds(order):
+    """Tell the rounds in which an order leads from place to place, each from its least place on, sorted."""
+    rounds = []
+    for start in range(len(order)):
+        places = [start]
+        while order[places[-1]] != start:
+            places.append(order[places[-1]])
+        # A round comes up once from each of its places; that from its least one is kept.
+        if min(places) == start:
+            rounds.append(places)
+    return rounds

@@ -1,7 +1,7 @@
 """Squares, judged and vetted, and the lines on them."""
 
-from rookborders.errors import NoSquare
-from rookborders.orders import is_order
+from rookborders.errors import NoSquare, NotOne
+from rookborders.orders import is_order, order_rounds
 
 LEAST_SIZE = 2
 MOST_SIZE = 6
@@ -27,23 +27,14 @@ def vet(thing):
     return True
 
 
-def line_from(square, start):
-    """Tell the columns of the line through the start column, from there on in the order gone."""
-    rings, crosses = square
-    line = [start]
-    column = crosses.index(rings[start])
-    while column != start:
-        line.append(column)
-        column = crosses.index(rings[column])
-    return line
-
-
 def lines_of(square):
     """Tell the lines as lists of columns, each from its least column on, sorted."""
-    lines = []
-    for start in range(len(square[0])):
-        line = line_from(square, start)
-        # A line comes up once from each of its columns; that from its least one is kept.
-        if min(line) == start:
-            lines.append(line)
-    return lines
+    rings, crosses = square
+    return order_rounds([crosses.index(ring) for ring in rings])
+
+
+def vet_one_line(square):
+    """Tell True of a square with one line; refuse any other one with NotOne."""
+    if len(lines_of(square)) != 1:
+        raise NotOne("the square has more lines than one")
+    return True

@@ -1,9 +1,8 @@
 """The sums of powers that a square tells: by its stands, by winding numbers, by the crossings of its line."""
 
 from rookborders.crossings import crossings_of, words_of
-from rookborders.errors import NotOne
 from rookborders.powers import at_one, determinant, parted, tidy, times
-from rookborders.squares import lines_of
+from rookborders.squares import lines_of, vet_one_line
 from rookborders.stands import all_stands, home_of
 
 
@@ -74,8 +73,7 @@ def balanced(one):
 
 def by_crossings(square):
     """Tell the sum of the square's one line, or refuse it with NotOne."""
-    if len(lines_of(square)) != 1:
-        raise NotOne("the square has more lines than one")
+    vet_one_line(square)
     word = words_of(square)[0]
     arcs = arcs_by_places(word)
     rows = [row_at(word, arcs, number, sign) for number, (column, row, sign) in enumerate(crossings_of(square))]

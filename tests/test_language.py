@@ -169,6 +169,88 @@ class LanguageTest(unittest.TestCase):
                 powers = [node for node in nodes_of(tree, ast.BinOp) if isinstance(node.op, ast.Pow)]
                 self.assertEqual([node for node in powers if not isinstance(node.right, ast.Constant)], [])
 
+    def test_the_top_of_a_file(self):
+        plain = (ast.Expr, ast.ImportFrom, ast.FunctionDef, ast.ClassDef, ast.Assign)
+        for path, tree in self.trees.items():
+            with self.subTest(path.name):
+                self.assertEqual([node for node in tree.body if not isinstance(node, plain)], [])
+                # A docstring alone stands there by itself, and no value holds a call or a comprehension.
+                self.assertEqual([node for node in tree.body[1:] if isinstance(node, ast.Expr)], [])
+                given = [node.value for node in tree.body if isinstance(node, ast.Assign)]
+                out = (ast.Call, ast.ListComp, ast.DictComp, ast.SetComp, ast.Set, ast.Lambda)
+                self.assertEqual([node for value in given for node in nodes_of(value, out)], [])
+                kinds = nodes_of(tree, ast.ClassDef)
+                inner = [node for kind in kinds for node in kind.body if not isinstance(node, (ast.FunctionDef, ast.Expr))]
+                self.assertEqual(inner, [])
+
+    def test_tops_lists_and_dicts_hold_own_defs_and_plain_values_and_are_not_handed_on(self):
+        for path, tree in self.trees.items():
+            with self.subTest(path.name):
+                defs = [node.name for node in tree.body if isinstance(node, ast.FunctionDef)]
+                kept = []
+                for node in tree.body:
+                    if isinstance(node, ast.Assign) and isinstance(node.value, (ast.List, ast.Dict)):
+                        names = [name.id for name in nodes_of(node.value, ast.Name)]
+                        self.assertEqual([name for name in names if name not in defs], [])
+                        self.assertEqual(len(nodes_of(node.value, (ast.List, ast.Dict))), 1)
+                        kept.append(node.targets[0].id)
+                for node in nodes_of(tree, (ast.Return, ast.Assign)):
+                    if isinstance(node.value, ast.Name):
+                        self.assertNotIn(node.value.id, kept)
+                for node in nodes_of(tree, ast.Call):
+                    handed = [thing.id for thing in node.args if isinstance(thing, ast.Name)]
+                    self.assertEqual([name for name in handed if name in kept], [])
+
+    def test_plain_parameters_and_keywords(self):
+        for path, tree in self.trees.items():
+            with self.subTest(path.name):
+                for node in nodes_of(tree, ast.arguments):
+                    self.assertEqual((node.vararg, node.kwarg, node.posonlyargs, node.defaults), (None, None, [], []))
+                for node in nodes_of(tree, ast.Call):
+                    if node.keywords:
+                        self.assertEqual((node.func.id, [word.arg for word in node.keywords]), ("sorted", ["reverse"]))
+                self.assertEqual(nodes_of(tree, (ast.Starred, ast.AnnAssign)), [])
+                self.assertEqual([node for node in nodes_of(tree, ast.arg) if node.annotation], [])
+                loops = nodes_of(tree, (ast.For, ast.While))
+                self.assertEqual([node for node in loops if node.orelse], [])
+
+    def test_walked_at_once(self):
+        takers = ("list", "tuple", "dict", "sorted", "sum", "any", "all", "enumerate", "zip", "min", "max")
+        for path, tree in self.trees.items():
+            with self.subTest(path.name):
+                walked = [node.iter for node in nodes_of(tree, (ast.For, ast.comprehension))]
+                for node in nodes_of(tree, ast.Call):
+                    if isinstance(node.func, ast.Name) and node.func.id in takers:
+                        walked += node.args[:1]
+                for node in nodes_of(tree, ast.Call):
+                    called = node.func.id if isinstance(node.func, ast.Name) else node.func.attr
+                    if called in ("zip", "enumerate", "reversed", "range", "items", "keys", "values"):
+                        self.assertIn(node, walked, ast.unparse(node))
+
+    def test_what_is_walked_is_not_changed(self):
+        changes = ("append", "clear", "extend", "insert", "pop", "remove", "reverse", "setdefault", "update", "sort")
+        for path, tree in self.trees.items():
+            for loop in nodes_of(tree, ast.For):
+                walked = [name.id for name in nodes_of(loop.iter, ast.Name)]
+                for node in nodes_of(loop, ast.Call):
+                    if isinstance(node.func, ast.Attribute) and node.func.attr in changes:
+                        self.assertNotIn(ast.unparse(node.func.value), walked, path.name)
+                for node in nodes_of(loop, ast.Subscript):
+                    if not isinstance(node.ctx, ast.Load):
+                        self.assertNotIn(ast.unparse(node.value), walked, path.name)
+
+    def test_errors_are_raised_and_taken_by_own_names(self):
+        own = {kind.name for kind in nodes_of(self.trees[PACKAGE / "errors.py"], ast.ClassDef)}
+        for path, tree in self.trees.items():
+            with self.subTest(path.name):
+                for node in nodes_of(tree, ast.Raise):
+                    self.assertIsInstance(node.exc, ast.Call)
+                    self.assertIn(node.exc.func.id, own)
+                for node in nodes_of(tree, ast.ExceptHandler):
+                    taken = {name.id for name in nodes_of(node.type, ast.Name)}
+                    self.assertLessEqual(taken, own)
+                    self.assertTrue(taken)
+
     def test_methods_and_values(self):
         given = set()
         for tree in self.trees.values():
